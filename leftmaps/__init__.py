@@ -1,0 +1,1 @@
+"""Leftmaps: places in a plane that nobody has seen from above."""
