@@ -2,6 +2,7 @@
 
 import itertools
 import unittest
+from unittest import mock
 
 from leftmaps import places as module
 from leftmaps.errors import BadPlaces
@@ -78,6 +79,9 @@ class IsLotTest(unittest.TestCase):
         self.assertIs(is_lot(FOUR, ("A",)), False)
         for value in wrong_values():
             self.assertIs(is_lot(WORDS, value), False)
+
+    def test_what_equals_everything_is_no_place(self):
+        self.assertIs(is_lot(FOUR, (mock.ANY,)), False)
 
     def test_a_tuple_as_an_item(self):
         self.assertIs(is_lot(FOUR, (("a",),)), False)
