@@ -1,6 +1,6 @@
 """Places, lots of them, and the names of the rules that turns keep."""
 
-from leftmaps.errors import BadPlaces
+from leftmaps.errors import BadLot, BadPlace, BadPlaces
 
 LEAST_PLACES = 3
 MOST_PLACES = 5
@@ -43,6 +43,44 @@ def is_lot(places, thing):
     if not isinstance(thing, tuple):
         return False
     return all([is_place(places, item) for item in thing]) and is_ascending(thing)
+
+
+def need_place(places, thing):
+    """The value itself, which is one of the places."""
+    if not is_place(places, thing):
+        raise BadPlace(thing)
+    return thing
+
+
+def need_lot(places, thing):
+    """The value itself, which is a lot of the places."""
+    if not is_lot(places, thing):
+        raise BadLot(thing)
+    return thing
+
+
+def need_others(places, place, thing):
+    """The value itself, which is a lot of three or more of the places, the one place not in it."""
+    if not is_lot(places, thing) or len(thing) < LEAST_PLACES or place in thing:
+        raise BadLot(thing)
+    return thing
+
+
+def is_way(places, thing):
+    """Whether any value is a way of two of the places."""
+    return is_lot(places, thing) and len(thing) == 2
+
+
+def need_way(places, thing):
+    """The value itself, which is a way of two of the places."""
+    if not is_way(places, thing):
+        raise BadLot(thing)
+    return thing
+
+
+def besides(places, lot):
+    """The lot of the places that are not in the other lot."""
+    return tuple([place for place in places if place not in lot])
 
 
 def threes(places):

@@ -83,7 +83,8 @@ class LanguageTest(unittest.TestCase):
                     self.assertIn(node.module, ("heapq", "math", "itertools", "collections"), name)
 
     def test_builtins(self):
-        barred = set(dir(builtins))
+        # An interactive run, doctest's too, leaves its last value in builtins as `_`, which is free.
+        barred = set(dir(builtins)) - {"_"}
         for name, tree in trees():
             self.assertLessEqual(set(bound_names(tree)) & barred, set(), name)
             for node in ast.walk(tree):

@@ -7,6 +7,7 @@ import unittest
 from leftmaps.errors import BadLot, BadPlace, BadPlaces, BadTurns
 from leftmaps.maps import Map, all_maps, from_spots
 from leftmaps.places import rules
+from tests.case import Case
 from tests.samples import WORDS, all_tables, broken_rules, placings, seen_tables, told, turns_at, wrong_values
 
 THREE = ("a", "b", "c")
@@ -19,17 +20,7 @@ def spots_at(places, points):
     return [(place, x, y) for place, (x, y) in zip(places, points)]
 
 
-class MapCase(unittest.TestCase):
-
-    def refused(self, error, function, *values, **named):
-        """The error itself; fails if another one or none is raised."""
-        with self.assertRaises(error) as caught:
-            function(*values, **named)
-        self.assertIs(caught.exception.__class__, error)
-        return caught.exception
-
-
-class NewMapTest(MapCase):
+class NewMapTest(Case):
 
     def test_fields(self):
         for turns in ([True], (True,), [False], (False,)):
@@ -101,7 +92,7 @@ class NewMapTest(MapCase):
         self.assertEqual(sorts, {(), ("round",), ("within",), ("round", "within")})
 
 
-class AllMapsTest(MapCase):
+class AllMapsTest(Case):
 
     def test_how_many(self):
         for many, maps in ((3, 2), (4, 14), (5, 264)):
@@ -127,7 +118,7 @@ class AllMapsTest(MapCase):
             self.assertIs(self.refused(BadPlaces, all_maps, value).value, value)
 
 
-class EqualTest(MapCase):
+class EqualTest(Case):
 
     def test_equal_by_both_fields(self):
         one = Map(THREE, [True])
@@ -187,7 +178,7 @@ class EqualTest(MapCase):
             chart[0]
 
 
-class LeftTest(MapCase):
+class LeftTest(Case):
 
     def test_all_orders_in_all_maps(self):
         for many in (3, 4, 5):
@@ -219,7 +210,7 @@ class LeftTest(MapCase):
             self.assertEqual(self.refused(BadPlace, chart.left, *values).value, first)
 
 
-class OtherMapsTest(MapCase):
+class OtherMapsTest(Case):
 
     def test_mirrored(self):
         for many in (3, 4, 5):

@@ -1,4 +1,4 @@
-"""Points [11], [26]: from_spots and spots_of of leftmaps/maps.py, and the example of the document."""
+"""Points [11], [26]: from_spots and spots_of of leftmaps/maps.py."""
 
 import itertools
 import unittest
@@ -116,15 +116,6 @@ class SpotsOfTest(unittest.TestCase):
     def test_they_hang_on_the_map_alone(self):
         for chart in all_maps(WORDS)[::9]:
             self.assertEqual(spots_of(chart), spots_of(Map(chart.places, list(chart.turns))))
-
-
-class ExampleTest(unittest.TestCase):
-
-    def test_example_of_the_document(self):
-        view = from_spots([("a", 0, 0), ("b", 4, 0), ("c", 0, 4), ("d", 1, 1)])
-        self.assertEqual(view.places, ("a", "b", "c", "d"))
-        self.assertEqual(len(all_maps(("a", "b", "c", "d"))), 14)
-        self.assertIs(view.left("a", "b", "d") and view.left("b", "c", "d") and view.left("c", "a", "d"), True)
 
 
 if __name__ == "__main__":

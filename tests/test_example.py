@@ -1,0 +1,45 @@
+"""The example of the document, as far as the modules reach that there are, and those of README.md."""
+
+import doctest
+import pathlib
+import unittest
+
+from leftmaps.claims import at_border, holds
+from leftmaps.looks import border, is_within
+from leftmaps.maps import all_maps, from_spots
+from leftmaps.nets import all_nets
+from leftmaps.rounds import clean_rounds
+
+README = pathlib.Path(__file__).resolve().parent.parent / "README.md"
+
+
+class ExampleTest(unittest.TestCase):
+
+    def test_example_of_the_document(self):
+        places = ("a", "b", "c", "d")
+        view = from_spots([("a", 0, 0), ("b", 4, 0), ("c", 0, 4), ("d", 1, 1)])
+        self.assertEqual(view.places, places)
+        self.assertEqual(border(view), ("a", "b", "c"))
+        self.assertIs(is_within(view, "d", ("a", "b", "c")), True)
+        net = (("a", "b"), ("a", "c"), ("a", "d"), ("b", "c"), ("b", "d"), ("c", "d"))
+        self.assertEqual(all_nets(view), (net,))
+        clean = (("a", "b", "c", "d"), ("a", "b", "d", "c"), ("a", "c", "b", "d"))
+        self.assertEqual(clean_rounds(view), clean)
+        self.assertEqual(len(all_maps(places)), 14)
+
+    def test_its_claims_hold_of_its_map(self):
+        places = ("a", "b", "c", "d")
+        view = from_spots([("a", 0, 0), ("b", 4, 0), ("c", 0, 4), ("d", 1, 1)])
+        for atom in ("abd", "bcd", "cad", "abc"):
+            self.assertIs(holds(view, ("left", *atom)), True)
+        self.assertIs(holds(view, at_border(places, "d")), False)
+        self.assertIs(holds(view, ("not", ("left", "b", "a", "d"))), True)
+
+    def test_examples_of_the_readme(self):
+        found = doctest.testfile(str(README), module_relative=False)
+        self.assertGreater(found.attempted, 20)
+        self.assertEqual(found.failed, 0)
+
+
+if __name__ == "__main__":
+    unittest.main()
