@@ -1,6 +1,7 @@
 """Values and plain reckonings that the tests share; none of them uses the package's own."""
 
 import itertools
+from unittest import mock
 
 WORDS = ("ant", "bee", "cat", "dog", "elk")
 
@@ -22,6 +23,31 @@ def wrong_values():
         ("ant", "bee", None), ("ant", "bee", 3), ("ant", "bee", True), (b"ant", b"bee", b"cat"), (1, 2, 3),
         ("cat", "bee", "ant"), ("ant", "ant", "bee"), ("ant", "cat", "bee"), ("ant", "bee", "bee"),
         ("Ant", "bee", "cat"), ("ant", "bee", "cat "), nested(50), ("ant", "bee", nested(40)), ("ant",) * 20000,
+    ]
+
+
+def wrong_ways():
+    """Values, many of them nearly so, none of which is a way of the first five letters."""
+    return wrong_values() + [
+        (), ("a",), ("b", "a"), ("a", "a"), ("a", "f"), ("a", "b", "c"), ["a", "b"], "ab", {"a", "b"},
+        (("a", "b"), ("c", "d")), ("a", ("b",)), ("a", None), {"a": 1, "b": 2}, ("a", mock.ANY), ("a", ["b"]),
+        (["a"], {}), mock.ANY,
+    ]
+
+
+def wrong_others():
+    """Values, many of them nearly so, none of which is a lot of three or more of the first five letters beside a."""
+    return wrong_values() + [
+        (), ("b",), ("b", "c"), ("a", "b", "c"), ("a", "b", "c", "d"), ("a", "b", "c", "d", "e"), ("b", "d", "c"),
+        ("b", "c", "c"), ("b", "c", "f"), ["b", "c", "d"], "bcd", {"b", "c", "d"}, ("b", "c", "d", "d"),
+        ("b", "c", "D"), ("b", "c", mock.ANY), mock.ANY,
+    ]
+
+
+def wrong_lots():
+    """Values, many of them nearly so, none of which is a lot of the first five letters."""
+    return wrong_values() + [
+        ("d", "c"), ("c", "c"), ("f",), ["c"], [], "c", "", {"c"}, {}, ("c", "D"), ("c", ("d",)), (mock.ANY,), mock.ANY,
     ]
 
 

@@ -2,6 +2,7 @@
 
 import itertools
 import unittest
+from unittest import mock
 
 from leftmaps.claims import at_border, holds, is_cut, lies_within, need_claim, ways_cross
 from leftmaps.errors import BadClaim, BadLot, BadPlace, BadPlaces
@@ -9,7 +10,7 @@ from leftmaps.looks import border, can_cut, do_cross, is_within
 from leftmaps.maps import Map, from_spots
 from tests.case import Case
 from tests.plain import all_placed, lots_of, placed, ways_of
-from tests.samples import WORDS, area, nested, wrong_values
+from tests.samples import WORDS, area, nested, wrong_lots, wrong_others, wrong_values, wrong_ways
 
 THREE = ("a", "b", "c")
 FOUR = ("a", "b", "c", "d")
@@ -101,7 +102,8 @@ def wrong_claims():
     ]
     deep = [nots(9), nots(10), nots(40), alls(9), alls(20), ("all", (ABC, nots(8))), ("not", alls(8)), nested(45)]
     many = [("all", (ABC,) * 300), ("some", (("all", (ABC,) * 99),) * 3), ("all", (ABC,) * 3500), ("not", wide(300))]
-    values = atoms + lists + negatives
+    any_word = [(mock.ANY, "a", "b", "c"), (mock.ANY, ()), (mock.ANY, ABC), ("left", mock.ANY, "b", "c"), mock.ANY]
+    values = atoms + lists + negatives + any_word
     within = [("not", value) for value in values] + [("some", (ABC, ("all", (value,)))) for value in values]
     return values + within + deep + many + [(), ((),), (ABC,), (ABC, ABC)] + wrong_values()
 
@@ -248,25 +250,19 @@ class LooksClaimsErrorsTest(Case):
                 self.assertIs(self.refused(BadPlace, lies_within, FOUR, value, lot).value, value)
 
     def test_no_lots_of_three_or_more_others(self):
-        wrong = [
-            (), ("b",), ("b", "c"), ("a", "b", "c"), ("a", "b", "c", "d"), FIVE, ("b", "d", "c"), ("b", "c", "c"),
-            ("b", "c", "f"), ["b", "c", "d"], "bcd", {"b", "c", "d"}, ("b", "c", "d", "d"), ("b", "c", "D"),
-        ]
-        for value in wrong_values() + wrong:
+        for value in wrong_others():
             self.refuses(BadLot, value, lies_within, FIVE, "a")
         for value in lots_of(THREE):
             self.refuses(BadLot, value, lies_within, THREE, "a")
 
     def test_no_ways(self):
-        wrong = [(), ("a",), ("b", "a"), ("a", "a"), ("a", "f"), ("a", "b", "c"), ["a", "b"], "ab", ("a", ("b",))]
-        for value in wrong_values() + wrong:
+        for value in wrong_ways():
             self.assertIs(self.refused(BadLot, ways_cross, FIVE, value, ("a", "b")).value, value)
             self.refuses(BadLot, value, ways_cross, FIVE, ("a", "b"))
             self.assertEqual(self.refused(BadLot, ways_cross, FIVE, ("x", "y"), value).value, ("x", "y"))
 
     def test_no_lots(self):
-        wrong = [("d", "c"), ("c", "c"), ("f",), ["c"], [], "c", "", {"c"}, {}, ("c", "D"), ("c", ("d",))]
-        for value in wrong_values() + wrong:
+        for value in wrong_lots():
             self.refuses(BadLot, value, is_cut, FIVE)
 
 

@@ -82,6 +82,14 @@ class LanguageTest(unittest.TestCase):
                 elif isinstance(node, ast.ImportFrom):
                     self.assertIn(node.module, ("heapq", "math", "itertools", "collections"), name)
 
+    def test_imports_are_used_and_nothing_else_has_their_names(self):
+        for name, tree in trees():
+            imported = [alias.name for node in tree.body if isinstance(node, ast.ImportFrom) for alias in node.names]
+            self.assertEqual(len(imported), len(set(imported)), name)
+            self.assertEqual(set(imported) & set(bound_names(tree)), set(), name)
+            read = {node.id for node in ast.walk(tree) if isinstance(node, ast.Name)}
+            self.assertLessEqual(set(imported), read, name)
+
     def test_builtins(self):
         # An interactive run, doctest's too, leaves its last value in builtins as `_`, which is free.
         barred = set(dir(builtins)) - {"_"}

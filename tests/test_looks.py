@@ -2,6 +2,7 @@
 
 import itertools
 import unittest
+from unittest import mock
 
 from leftmaps.errors import BadLot, BadPlace
 from leftmaps.looks import border, can_cut, do_cross, is_within, layers, meeting, sight
@@ -9,7 +10,7 @@ from leftmaps.maps import Map, all_maps, from_spots, spots_of
 from tests.case import Case
 from tests.plain import all_placed, border_at, cross_at, cuts_at, layers_at, lots_of, placed, sight_at, ways_of
 from tests.plain import within_at
-from tests.samples import WORDS, wrong_values
+from tests.samples import WORDS, wrong_lots, wrong_others, wrong_values, wrong_ways
 
 VIEW = from_spots([("a", 0, 0), ("b", 4, 0), ("c", 0, 4), ("d", 1, 1)])
 FIVE = ("a", "b", "c", "d", "e")
@@ -81,16 +82,12 @@ class IsWithinTest(Case):
         self.assertIs(is_within(chart=VIEW, place="a", lot=("b", "c", "d")), False)
 
     def test_no_places(self):
-        for value in [*wrong_values(), "f", "A", ("a",), ["a"]]:
+        for value in [*wrong_values(), "f", "A", ("a",), ["a"], mock.ANY]:
             told = self.refused(BadPlace, is_within, FIVE_VIEW, value, ("b", "c", "d"))
             self.assertIs(told.value, value)
 
     def test_no_lots_of_three_or_more_others(self):
-        wrong = [
-            (), ("b",), ("b", "c"), ("a", "b", "c"), ("a", "b", "c", "d"), FIVE, ("b", "d", "c"), ("b", "c", "c"),
-            ("b", "c", "f"), ["b", "c", "d"], "bcd", {"b", "c", "d"}, ("b", "c", "d", "d"), ("b", "c", "D"),
-        ]
-        for value in wrong_values() + wrong:
+        for value in wrong_others():
             self.refuses(BadLot, value, is_within, FIVE_VIEW, "a")
         three = Map(("a", "b", "c"), [True])
         for value in lots_of(("a", "b", "c")):
@@ -119,11 +116,7 @@ class DoCrossTest(Case):
         self.assertIs(do_cross(chart=FIVE_VIEW, one=("b", "c"), other=("d", "e")), False)
 
     def test_no_ways(self):
-        wrong = [
-            (), ("a",), ("b", "a"), ("a", "a"), ("a", "f"), ("a", "b", "c"), ["a", "b"], "ab", {"a", "b"},
-            (("a", "b"), ("c", "d")), ("a", ("b",)), ("a", None), {"a": 1, "b": 2},
-        ]
-        for value in wrong_values() + wrong:
+        for value in wrong_ways():
             self.assertIs(self.refused(BadLot, do_cross, FIVE_VIEW, value, ("a", "b")).value, value)
             self.refuses(BadLot, value, do_cross, FIVE_VIEW, ("a", "b"))
             self.assertEqual(self.refused(BadLot, do_cross, FIVE_VIEW, ("x", "y"), value).value, ("x", "y"))
@@ -145,7 +138,7 @@ class SightTest(Case):
         self.assertEqual(sight(Map(("a", "b", "c"), [False]), "b"), ("a", "c"))
 
     def test_no_places(self):
-        for value in [*wrong_values(), "e", "A", ("a",), ["a"]]:
+        for value in [*wrong_values(), "e", "A", ("a",), ["a"], mock.ANY]:
             self.refuses(BadPlace, value, sight, VIEW)
 
 
@@ -170,8 +163,7 @@ class CanCutTest(Case):
         self.assertIs(can_cut(FIVE_VIEW, ("c", "e")), True)
 
     def test_no_lots(self):
-        wrong = [("d", "c"), ("c", "c"), ("f",), ["c"], [], "c", "", {"c"}, {}, ("c", "D"), ("c", ("d",))]
-        for value in wrong_values() + wrong:
+        for value in wrong_lots():
             self.refuses(BadLot, value, can_cut, FIVE_VIEW)
 
 

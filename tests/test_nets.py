@@ -3,6 +3,7 @@
 import functools
 import itertools
 import unittest
+from unittest import mock
 
 from leftmaps.errors import BadNet, BadPaper
 from leftmaps.looks import border
@@ -34,8 +35,9 @@ def near_nets(places, net):
     twice = [net[:n + 1] + net[n:] for n in range(len(net))]
     none = [(("a", "a"), *net), (*net, ("z",)), (*net, ("x", "y")), (*net, "ab"), (*net, None), (*net, ())]
     first = net[0]
-    turned = [((first[1], first[0]), *net[1:]), (list(first), *net[1:]), ((*first, first[1]), *net[1:])]
-    return more + less + swaps + twice + none + turned + [net[::-1], list(net), set(net), dict(net), (net,)]
+    for way in (first[::-1], list(first), (*first, first[1]), ([first[0]], first[1]), (first[0], {}), (mock.ANY,) * 2):
+        none.append((way, *net[1:]))
+    return more + less + swaps + twice + none + [net[::-1], list(net), set(net), dict(net), (net,), mock.ANY]
 
 
 class AllNetsTest(Case):
@@ -119,6 +121,7 @@ class ExchangesTest(Case):
         near = [
             BACK, list(THERE), (AC,), (AC, BD, BD), (AC, BD, AC), (AC, list(BD)), (("c", "a"), BD), (AC, ("d", "b")),
             (AC, AC), (BD, BD), (AB, CD), (AC, "bd"), (AC, None), (THERE,), (THERE, THERE), {AC: BD}, {AC, BD}, "acbd",
+            (AC, (["b"], "d")), (("a", {}), BD), mock.ANY, (mock.ANY, mock.ANY), (AC, mock.ANY), (AC, (mock.ANY, "d")),
         ]
         for value in near + wrong_values():
             self.assertEqual(self.refused(BadPaper, exchanged, SQUARE, ONE, value).place, "exchange")
@@ -202,7 +205,7 @@ class CheckExchangesTest(Case):
                     self.assertIs(check_exchanges(chart, one, other, row[:n] + (list(row[n]),) + row[n + 1:]), False)
 
     def test_a_wrong_pair_behind_the_right_end(self):
-        for value in [BACK[::-1], None, (), (AC,), [BD, AC], "x", (AB, CD), (BD, AC, AC)]:
+        for value in [BACK[::-1], None, (), (AC,), [BD, AC], "x", (AB, CD), (BD, AC, AC), mock.ANY, (BD, ([], {}))]:
             self.assertIs(check_exchanges(SQUARE, ONE, OTHER, (THERE, value)), False)
             self.assertIs(check_exchanges(SQUARE, ONE, ONE, (value,)), False)
 

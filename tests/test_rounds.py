@@ -3,6 +3,7 @@
 import functools
 import itertools
 import unittest
+from unittest import mock
 
 from leftmaps.errors import BadPlaces, BadRound
 from leftmaps.maps import Map, from_spots
@@ -35,6 +36,7 @@ def wrong_rounds():
         (), FIVE[:4], (*FIVE, "f"), (*FIVE, "a"), ("a", "b", "c", "d", "d"), ("a", "a", "b", "c", "d"),
         ("a", "b", "b", "d", "e"), ("a", "b", "c", "d", "f"), ("a", "b", "c", "d", ("e",)), ("a", "b", "c", "d", None),
         list(FIVE), "abcde", set(FIVE), dict.fromkeys(FIVE), (FIVE,), ("a",), (1, 2, 3, 4, 5),
+        ("a", "b", "c", "d", mock.ANY), mock.ANY, ("a", "b", "c", "d", {}), ("a", ["b"], "c", "d", "e"),
     ]
     return orders + near + wrong_values()
 
