@@ -78,6 +78,18 @@ def need_way(places, thing):
     return thing
 
 
+def is_three(places, thing):
+    """Whether any value is a lot of three of the places."""
+    return is_lot(places, thing) and len(thing) == 3
+
+
+def need_three(places, thing):
+    """The value itself, which is a lot of three of the places."""
+    if not is_three(places, thing):
+        raise BadLot(thing)
+    return thing
+
+
 def besides(places, lot):
     """The lot of the places that are not in the other lot."""
     return tuple([place for place in places if place not in lot])

@@ -4,11 +4,13 @@ import doctest
 import pathlib
 import unittest
 
+from leftmaps.books import Book
 from leftmaps.claims import at_border, holds
 from leftmaps.looks import border, is_within
 from leftmaps.maps import all_maps, from_spots
 from leftmaps.nets import all_nets
 from leftmaps.rounds import clean_rounds
+from leftmaps.verdicts import check, follows, verdict
 
 README = pathlib.Path(__file__).resolve().parent.parent / "README.md"
 
@@ -26,6 +28,10 @@ class ExampleTest(unittest.TestCase):
         clean = (("a", "b", "c", "d"), ("a", "b", "d", "c"), ("a", "c", "b", "d"))
         self.assertEqual(clean_rounds(view), clean)
         self.assertEqual(len(all_maps(places)), 14)
+        book = Book(places, [("left", "a", "b", "d"), ("left", "b", "c", "d"), ("left", "c", "a", "d")])
+        self.assertIs(follows(book, ("left", "a", "b", "c")), True)
+        self.assertIs(follows(book, at_border(places, "d")), False)
+        self.assertEqual(check(book, ("left", "a", "b", "c"), verdict(book, ("left", "a", "b", "c"))), "tree")
 
     def test_its_claims_hold_of_its_map(self):
         places = ("a", "b", "c", "d")

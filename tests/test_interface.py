@@ -1,4 +1,4 @@
-"""The names and parameters of the interface, each one in the file that lists it."""
+"""The names and parameters of the interface, each one defined in the file, and the class, that lists it."""
 
 import importlib
 import inspect
@@ -30,7 +30,30 @@ FUNCTIONS = {
         "lies_within": ["places", "place", "lot"], "ways_cross": ["places", "one", "other"],
         "is_cut": ["places", "lot"],
     },
+    "trees": {
+        "closed": ["places", "known"], "judged": ["known", "claim"], "is_quarrel": ["book", "thing"],
+        "shows": ["book", "claim", "thing"],
+    },
+    "verdicts": {
+        "possible": ["book"], "verdict": ["book", "claim"], "follows": ["book", "claim"],
+        "check": ["book", "claim", "paper"],
+    },
+    "bits": {
+        "set_of": ["places", "claim"], "left_by": ["book"], "maps_in": ["places", "number"],
+        "follows_by_bits": ["book", "claim"],
+    },
 }
+CLASSES = {
+    "maps": {"Map": {
+        "__init__": ["places", "turns"], "__len__": [], "__eq__": ["other"], "left": ["a", "b", "c"], "mirrored": [],
+        "only": ["lot"], "renamed": ["words"], "grown": ["word"],
+    }},
+    "books": {"Book": {
+        "__init__": ["places", "facts"], "__len__": [], "__getitem__": ["at"], "__eq__": ["other"], "adding": ["claim"],
+        "without": ["number"], "keeps": ["chart"],
+    }},
+}
+DEFAULTS = {("books", "Book", "__init__", "facts"): ()}
 
 
 class InterfaceTest(unittest.TestCase):
@@ -41,7 +64,24 @@ class InterfaceTest(unittest.TestCase):
             for name, parameters in functions.items():
                 function = getattr(module, name)
                 self.assertEqual(function.__module__, "leftmaps." + file)
+                self.assertEqual(function.__qualname__, name)
                 self.assertEqual(list(inspect.signature(function).parameters), parameters, name)
+                for parameter in inspect.signature(function).parameters.values():
+                    self.assertIs(parameter.default, parameter.empty)
+
+    def test_each_class_defines_its_methods_itself(self):
+        for file, classes in CLASSES.items():
+            module = importlib.import_module("leftmaps." + file)
+            for name, methods in classes.items():
+                found = getattr(module, name)
+                self.assertEqual(found.__module__, "leftmaps." + file)
+                for method, parameters in methods.items():
+                    self.assertIn(method, vars(found), name)
+                    signature = inspect.signature(vars(found)[method])
+                    self.assertEqual(list(signature.parameters), ["self", *parameters], (name, method))
+                    for parameter in parameters:
+                        default = DEFAULTS.get((file, name, method, parameter), inspect.Parameter.empty)
+                        self.assertEqual(signature.parameters[parameter].default, default, (name, method))
 
 
 if __name__ == "__main__":
