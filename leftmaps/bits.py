@@ -13,11 +13,11 @@ class Sets:
     def __init__(self, places):
         self.places = places
         self.lots = threes(places)
-        self.tables = map_tables(places)
-        self.every = (1 << len(self.tables)) - 1
+        tables = map_tables(places)
+        self.every = (1 << len(tables)) - 1
         pairs = {}
         for three, worth in zip(self.lots, worths(places)):
-            so = sum([1 << number for number, table in enumerate(self.tables) if table & worth])
+            so = sum([1 << number for number, table in enumerate(tables) if table & worth])
             pairs[three] = (so, self.every ^ so)
         self.lefts = in_any_order(pairs)
 

@@ -93,7 +93,8 @@ def check(book, claim, paper):
 def is_against(book, claim, thing):
     """Whether any value is spots of a map that keeps the book and of which the claim does not hold."""
     chart = map_of(thing)
-    return chart is not None and book.keeps(chart) and not is_so(chart, claim)
+    # What is no map keeps no book.
+    return book.keeps(chart) and not is_so(chart, claim)
 
 
 def map_of(thing):

@@ -190,7 +190,7 @@ def tree_with(three, ends):
 
 
 def chain_of(three, cases):
-    """A tree with so many cases one within another, always of the same three, now in the first tree, now in the second."""
+    """A tree with so many cases one within another, always of the same three, by turns in its first and second tree."""
     tree = ()
     for number in range(cases):
         tree = (three, tree, ()) if number & 1 else (three, (), tree)

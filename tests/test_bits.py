@@ -37,7 +37,8 @@ class SetOfTest(Case):
 
     def test_claims_that_tell_what_looks_tell(self):
         maps = all_maps(WORDS)
-        for claim in [at_border(WORDS, place) for place in WORDS] + [is_cut(WORDS, lot) for lot in (WORDS[:1], WORDS[1:3])]:
+        cuts = [is_cut(WORDS, WORDS[:1]), is_cut(WORDS, WORDS[1:3])]
+        for claim in [at_border(WORDS, place) for place in WORDS] + cuts:
             plain = as_set(number for number, chart in enumerate(maps) if holds(chart, claim))
             self.assertEqual(set_of(WORDS, claim), plain)
 
@@ -101,7 +102,8 @@ class MapsInTest(Case):
     def test_no_sets(self):
         for many, maps in MANY.items():
             wrong = [
-                2 ** maps, 2 ** maps + 1, 2 ** (maps + 1) - 1, 2 ** 400, 10 ** 999, -1, -2, -2 ** maps, -10 ** 999, True,
+                2 ** maps, 2 ** maps + 1, 2 ** (maps + 1) - 1, 2 ** 400, 10 ** 999, -1, -2, -2 ** maps, -10 ** 999,
+                True,
                 False, None, "1", "", b"1", (1,), [1], {1}, {0: 1}, (), object(), mock.ANY, range(1), int,
             ]
             for value in wrong + [value for value in wrong_values() if value.__class__ is not int]:

@@ -1,4 +1,4 @@
-"""The example of the document, as far as the modules reach that there are, and those of README.md."""
+"""The example of the document, by itself and as it stands there, and those of README.md."""
 
 import doctest
 import pathlib
@@ -10,9 +10,11 @@ from leftmaps.looks import border, is_within
 from leftmaps.maps import all_maps, from_spots
 from leftmaps.nets import all_nets
 from leftmaps.rounds import clean_rounds
+from leftmaps.texts import claim_text
 from leftmaps.verdicts import check, follows, verdict
 
 README = pathlib.Path(__file__).resolve().parent.parent / "README.md"
+DOCUMENT = README.parent.parent / "shared" / "DOC.md"
 
 
 class ExampleTest(unittest.TestCase):
@@ -32,6 +34,7 @@ class ExampleTest(unittest.TestCase):
         self.assertIs(follows(book, ("left", "a", "b", "c")), True)
         self.assertIs(follows(book, at_border(places, "d")), False)
         self.assertEqual(check(book, ("left", "a", "b", "c"), verdict(book, ("left", "a", "b", "c"))), "tree")
+        self.assertEqual(claim_text(places, ("not", ("left", "b", "a", "d"))), "not[ b a : d ]")
 
     def test_its_claims_hold_of_its_map(self):
         places = ("a", "b", "c", "d")
@@ -40,6 +43,14 @@ class ExampleTest(unittest.TestCase):
             self.assertIs(holds(view, ("left", *atom)), True)
         self.assertIs(holds(view, at_border(places, "d")), False)
         self.assertIs(holds(view, ("not", ("left", "b", "a", "d"))), True)
+
+    @unittest.skipUnless(DOCUMENT.is_file(), "the document is not beside the project")
+    def test_examples_as_they_stand_in_the_document(self):
+        examples = DOCUMENT.read_text().partition("\n# Examples\n")[2].replace("```", "")
+        found = doctest.DocTestParser().get_doctest(examples, {}, "DOC.md", str(DOCUMENT), 0)
+        told = doctest.DocTestRunner().run(found)
+        self.assertGreater(told.attempted, 15)
+        self.assertEqual(told.failed, 0)
 
     def test_examples_of_the_readme(self):
         found = doctest.testfile(str(README), module_relative=False)

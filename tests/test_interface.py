@@ -42,6 +42,18 @@ FUNCTIONS = {
         "set_of": ["places", "claim"], "left_by": ["book"], "maps_in": ["places", "number"],
         "follows_by_bits": ["book", "claim"],
     },
+    "questions": {
+        "next_question": ["book"], "fewest": ["book", "claim"], "plan": ["book", "claim"],
+        "is_plan": ["book", "claim", "thing"], "sure_places": ["book"],
+    },
+    "facts": {
+        "needless": ["book"], "least_facts": ["book", "claim"], "alike": ["one", "other"], "parted": ["one", "other"],
+    },
+    "walk": {"tried": ["walk", "function"]},
+    "texts": {
+        "claim_text": ["places", "claim"], "read_claim": ["places", "text"], "book_text": ["book"],
+        "read_book": ["text"], "spots_text": ["spots"], "read_spots": ["text"],
+    },
 }
 CLASSES = {
     "maps": {"Map": {
@@ -52,8 +64,12 @@ CLASSES = {
         "__init__": ["places", "facts"], "__len__": [], "__getitem__": ["at"], "__eq__": ["other"], "adding": ["claim"],
         "without": ["number"], "keeps": ["chart"],
     }},
+    "walk": {"Walk": {
+        "__init__": ["book"], "__len__": [], "__eq__": ["other"], "many": [], "answer": ["three", "is_left"],
+        "learn": ["claim"], "undo": ["many"], "surely": ["three"], "ask": [], "trial": [],
+    }},
 }
-DEFAULTS = {("books", "Book", "__init__", "facts"): ()}
+DEFAULTS = {("books", "Book", "__init__", "facts"): (), ("walk", "Walk", "undo", "many"): 1}
 
 
 class InterfaceTest(unittest.TestCase):

@@ -1,7 +1,6 @@
 """Points [0] to [4], [11], [12] and the class Map of leftmaps/maps.py."""
 
 import itertools
-import operator
 import unittest
 
 from leftmaps.errors import BadLot, BadPlace, BadPlaces, BadTurns
@@ -149,19 +148,7 @@ class EqualTest(Case):
                 self.assertEqual(len(chart), many)
 
     def test_other_operators(self):
-        chart = Map(THREE, [True])
-        signs = (
-            operator.lt, operator.le, operator.gt, operator.ge, operator.add, operator.sub, operator.mul,
-            operator.floordiv, operator.truediv, operator.mod, operator.pow, operator.and_, operator.or_,
-            operator.xor, operator.lshift, operator.rshift, operator.matmul,
-        )
-        for sign in signs:
-            for value in (chart, Map(THREE, [False]), 1, None, True, "a", THREE, [1], {}, {1}, object()):
-                with self.assertRaises(TypeError):
-                    sign(chart, value)
-                if not isinstance(value, str) or sign is not operator.mod:
-                    with self.assertRaises(TypeError):
-                        sign(value, chart)
+        self.has_no_operators(Map(THREE, [True]), [Map(THREE, [False]), Map(THREE, [True])])
 
     def test_no_iterating_no_in_no_items(self):
         chart = Map(THREE, [True])

@@ -239,10 +239,11 @@ class CheckTest(PaperCase):
     def test_no_pairs_with_one_of_both_words(self):
         word, tree = verdict(self.book, ABC)
         wrong = [
-            None, True, 0, "", "tree", (), ("tree",), ("spots",), ("tree", tree, tree), ("tree", tree, ()), [word, tree],
-            (tree, word), ("Tree", tree), ("quarrel", tree), ("form", tree), (None, tree), (True, tree), (["tree"], tree),
-            (("tree",), tree), ({}, tree), (b"tree", tree), {"tree": tree}, ("tre", tree), ("", tree), (mock.ANY, tree),
-            mock.ANY, ("tree", ("tree", tree)) * 2, {"tree", "spots"}, iter((word, tree)), (word, tree, None), tree, SPOTS,
+            None, True, 0, "", "tree", (), ("tree",), ("spots",), ("tree", tree, tree), ("tree", tree, ()),
+            [word, tree], (tree, word), ("Tree", tree), ("quarrel", tree), ("form", tree), (None, tree), (True, tree),
+            (["tree"], tree), (("tree",), tree), ({}, tree), (b"tree", tree), {"tree": tree}, ("tre", tree), ("", tree),
+            (mock.ANY, tree), mock.ANY, ("tree", ("tree", tree)) * 2, {"tree", "spots"}, iter((word, tree)),
+            (word, tree, None), tree, SPOTS,
         ]
         for value in wrong + wrong_values():
             self.assert_bad("form", ABC, value)
@@ -252,8 +253,10 @@ class CheckTest(PaperCase):
         _, tree = verdict(self.book, ABC)
         for claim in (NO_ABC, at_border(FOUR, "d"), NEVER, nots(8)):
             self.assert_bad("tree", claim, ("tree", tree))
-        wrong = [(), [], None, CASE[:2], (LOT, [], ()), list(tree), tree_with(LOT, 2001), chain_of(LOT, 100), ("tree", tree),
-                 SPOTS, (tree,), mock.ANY, "tree", True]
+        wrong = [
+            (), [], None, CASE[:2], (LOT, [], ()), list(tree), tree_with(LOT, 2001), chain_of(LOT, 100), ("tree", tree),
+            SPOTS, (tree,), mock.ANY, "tree", True,
+        ]
         for value in wrong + wrong_values():
             self.assert_bad("tree", ABC, ("tree", value))
         self.assertEqual(check(self.book, ABC, ("tree", full_tree(list(itertools.combinations(FOUR, 3))))), "tree")
@@ -261,7 +264,8 @@ class CheckTest(PaperCase):
     def test_trees_of_other_claims_and_books(self):
         for number, (places, facts) in enumerate(possible_books(4, 30)):
             book = Book(places, facts)
-            claims = [claim for claim in claims_on(places)[number % 7::7] if kept(places, facts) <= where(places, claim)]
+            claims = claims_on(places)[number % 7::7]
+            claims = [claim for claim in claims if kept(places, facts) <= where(places, claim)]
             for one, other in itertools.product(claims[:6], repeat=2):
                 _, tree = verdict(book, one)
                 if is_shown(places, facts, other, tree):
@@ -284,13 +288,14 @@ class CheckTest(PaperCase):
         self.assertEqual(check(self.book, NO_ABC, ("spots", SPOTS)), "spots")
         a, b, c, d = SPOTS
         wrong = [
-            list(SPOTS), (a, b, c), (a, b, c, d, ("e", 9, 8)), (b, a, c, d), (a, b, d, c), SPOTS[::-1], (a, b, c, list(d)),
-            (a, b, c, ("d", "1", 1)), (a, b, c, ("d", 1, "1")), (a, b, c, ("d", True, 1)), (a, b, c, ("d", 1, True)),
-            (a, b, c, ("d", 1)), (a, b, c, ("d", 1, 1, 1)), (a, b, c, ("e", 1, 1)), (a, b, c, ("d", 2, 2)), (a, b, c, a),
-            (a, b, c, ("d", 1, None)), (a, b, c, ("D", 1, 1)), (a, b, c, None), (a, b, c, mock.ANY), mock.ANY, (), None,
-            (a, b, c, ("d", 1, 0)), (a, b, c, ("d", 0, 0)), {"a": (0, 0)}, {*SPOTS}, iter(SPOTS), "abcd", (SPOTS,), (a, b),
-            (a, b, c, d, ("e", 1, 1)), (a, b, c, ("d", 5, 5)), (a, b, c, ("d", [1], 1)), (a, b, c, (["d"], 1, 1)),
-            ("spots", SPOTS), (a, b, c, d, d), tuple((place, (x, y)) for place, x, y in SPOTS), (a, b, c, ("d", -1, -1)),
+            list(SPOTS), (a, b, c), (a, b, c, d, ("e", 9, 8)), (b, a, c, d), (a, b, d, c), SPOTS[::-1],
+            (a, b, c, list(d)), (a, b, c, ("d", "1", 1)), (a, b, c, ("d", 1, "1")), (a, b, c, ("d", True, 1)),
+            (a, b, c, ("d", 1, True)), (a, b, c, ("d", 1)), (a, b, c, ("d", 1, 1, 1)), (a, b, c, ("e", 1, 1)),
+            (a, b, c, ("d", 2, 2)), (a, b, c, a), (a, b, c, ("d", 1, None)), (a, b, c, ("D", 1, 1)), (a, b, c, None),
+            (a, b, c, mock.ANY), mock.ANY, (), None, (a, b, c, ("d", 1, 0)), (a, b, c, ("d", 0, 0)), {"a": (0, 0)},
+            {*SPOTS}, iter(SPOTS), "abcd", (SPOTS,), (a, b), (a, b, c, d, ("e", 1, 1)), (a, b, c, ("d", 5, 5)),
+            (a, b, c, ("d", [1], 1)), (a, b, c, (["d"], 1, 1)), ("spots", SPOTS), (a, b, c, d, d),
+            tuple((place, (x, y)) for place, x, y in SPOTS), (a, b, c, ("d", -1, -1)),
         ]
         for value in wrong + wrong_values():
             self.assert_bad("spots", NO_ABC, ("spots", value))
